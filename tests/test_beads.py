@@ -2,56 +2,12 @@
 
 import copy
 import inspect
-import itertools
 import unittest
 
+from handed import LONG, MANY, NO_BEADS, NO_MEETINGS, few_beads, refusal
 from kindmeets import beads as module
 from kindmeets.beads import joined, meetings, turned
-from kindmeets.errors import BadBeads, BadMeeting, BeadError
-
-MANY = 10 ** 30
-# Longer than the numbers that Python is willing to write out as text.
-LONG = 10 ** 6000
-
-NO_TUPLES = (
-    None, True, False, 0, 1, 3, -1, MANY, LONG, "", "111", "01", b"111", [], [1, 1, 1], [0, 1],
-    {}, {0: 1, 1: 1, 2: 1}, {0: 1, 1: 2}, {1, 2, 3}, frozenset((0, 1)), range(3), range(2),
-    iter((1, 1, 1)), object(), len, int,
-)
-# What is no number, so neither a count nor a kind.
-NO_NUMBERS = (
-    True, False, None, "", "1", "text", b"1", [], [1], (), (1,), (1, 1, 1), {}, {1}, object(), int,
-)
-
-NO_BEADS = NO_TUPLES + (
-    (), (1,), (1, 1), (0, 1), (1, 1, 1, 1), (0, 0, 0, 1), (MANY,) * 4, ((1, 1, 1),),
-    (0, 0, 0),
-    (-1, 1, 1), (1, -1, 1), (1, 1, -1), (-1, -1, -1), (0, 0, -1), (5, -MANY, 5), (5, 5, -LONG),
-) + tuple(
-    (5,) * place + (wrong,) + (5,) * (2 - place)
-    for wrong in NO_NUMBERS for place in range(3)
-)
-
-NO_MEETINGS = NO_TUPLES + (
-    (), (0,), (1,), (0, 1, 2), (0, 1, 1), (0, 0, 1, 1), ((0, 1),),
-    (0, 0), (1, 1), (2, 2), (1, 0), (2, 0), (2, 1),
-    (-1, 0), (-1, 1), (-1, 2), (-2, 2), (-3, 1), (-2, -1), (0, -1), (1, -1), (-MANY, 1),
-    (0, 3), (1, 3), (2, 3), (3, 4), (3, 3), (3, 0), (0, MANY), (1, LONG), (LONG, LONG + 1),
-) + tuple((wrong, 2) for wrong in NO_NUMBERS) + tuple((0, wrong) for wrong in NO_NUMBERS)
-
-
-def refusal(call, *handed):
-    """The very class of the refusal, None if there is none; other errors are not caught."""
-    try:
-        call(*handed)
-    except BeadError as error:
-        return error.__class__
-    return None
-
-
-def small_beads():
-    """All beads with at most three of each kind."""
-    return [counts for counts in itertools.product(range(4), repeat=3) if counts != (0, 0, 0)]
+from kindmeets.errors import BadBeads, BadMeeting
 
 
 class Interface(unittest.TestCase):
@@ -98,7 +54,7 @@ class Meetings(unittest.TestCase):
 
     def test_each_of_few(self):
         pairs = [(0, 1), (0, 2), (1, 2)]
-        for counts in small_beads():
+        for counts in few_beads(3):
             with self.subTest(counts):
                 there = [pair for pair in pairs if counts[pair[0]] and counts[pair[1]]]
                 self.assertEqual(meetings(counts), there)
@@ -133,7 +89,7 @@ class Behind:
 
     def test_each_of_few(self):
         made = self.made
-        for a, b, c in small_beads():
+        for a, b, c in few_beads(3):
             behind = {(0, 1): (a - 1, b - 1, c + made), (0, 2): (a - 1, b + made, c - 1),
                       (1, 2): (a + made, b - 1, c - 1)}
             for meeting, wanted in behind.items():

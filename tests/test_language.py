@@ -69,6 +69,53 @@ class Language(unittest.TestCase):
                     self.assertIn(node.id, BUILTINS)
                     self.assertIsInstance(node.ctx, ast.Load)
 
+    def test_nothing_of_its_own_has_the_name_of_a_builtin(self):
+        for name, node in nodes():
+            if isinstance(node, (ast.FunctionDef, ast.ClassDef)):
+                self.assertNotIn(node.name, vars(builtins), name)
+            if isinstance(node, ast.arg):
+                self.assertNotIn(node.arg, vars(builtins), name)
+
+    def test_no_variable_has_the_name_of_an_import_or_a_class(self):
+        for name, text in sources().items():
+            tree = list(ast.walk(ast.parse(text)))
+            bound = {alias.name for node in tree if isinstance(node, ast.ImportFrom) for alias in node.names}
+            bound |= {node.name for node in tree if isinstance(node, ast.ClassDef)}
+            stored = {node.id for node in tree if isinstance(node, ast.Name) and isinstance(node.ctx, ast.Store)}
+            stored |= {node.arg for node in tree if isinstance(node, ast.arg)}
+            with self.subTest(name):
+                self.assertEqual(bound & stored, set())
+
+    def test_module_level(self):
+        for name, text in sources().items():
+            for node in ast.parse(text).body:
+                with self.subTest(name, line=node.lineno):
+                    self.assertIsInstance(
+                        node, (ast.Expr, ast.ImportFrom, ast.FunctionDef, ast.ClassDef, ast.Assign)
+                    )
+                    if isinstance(node, (ast.Expr, ast.Assign)):
+                        self.assertIsInstance(node.value, ast.Constant)
+
+    def test_is_stands_beside_none_true_and_false(self):
+        for name, node in nodes():
+            if isinstance(node, ast.Compare) and isinstance(node.ops[0], (ast.Is, ast.IsNot)):
+                with self.subTest(name, line=node.lineno):
+                    self.assertIsInstance(node.comparators[0], ast.Constant)
+                    self.assertIn(node.comparators[0].value, (None, True, False))
+
+    def test_no_two_files_import_from_each_other(self):
+        imported = {
+            "kindmeets." + name.removesuffix(".py"): {
+                node.module for node in ast.walk(ast.parse(text)) if isinstance(node, ast.ImportFrom)
+            }
+            for name, text in sources().items()
+        }
+        while imported:
+            free = [name for name, needed in imported.items() if not needed & set(imported)]
+            self.assertTrue(free, imported)
+            for name in free:
+                del imported[name]
+
     def test_no_numbers_with_a_point(self):
         for name, node in nodes():
             self.assertNotIsInstance(node, ast.Div, name)
